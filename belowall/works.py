@@ -20,7 +20,7 @@ def calls_by_hand(work):
             hand = (*process, m)
             found[hand] = calls
             rest.extend([((*hand, k), call[2]) for k, call in enumerate(calls) if call[0] == "fork"])
-    return {hand: found[hand] for hand in sorted(found)}
+    return {at: found[at] for at in sorted(found)}
 
 
 def names_by_process(work):
