@@ -35,7 +35,8 @@ class Plain:
         """Let a process be there, and its hands begin."""
         self._there[process] = body
         for m in range(len(hands)):
-            self._told[(*process, m)] = []
+            hand = (*process, m)
+            self._told[hand] = []
 
     def _next_call(self, hand):
         """Return the next call of a hand, any value, or None if there is none."""
