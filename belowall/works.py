@@ -29,7 +29,8 @@ def names_by_process(work):
     for hand, calls in calls_by_hand(work).items():
         for k, call in enumerate(calls):
             if call[0] == "fork":
-                found[(*hand, k)] = call[1]
+                process = (*hand, k)
+                found[process] = call[1]
     return found
 
 

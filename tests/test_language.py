@@ -90,6 +90,12 @@ class LanguageTest(unittest.TestCase):
                     self.assertNotIsInstance(node.value, (float, complex, bytes), path)
                     self.assertNotIn("%", str(node.value), path)
 
+    def test_no_star_in_an_index(self):
+        for path, tree in trees():
+            indexes = [node for node in ast.walk(tree) if isinstance(node, ast.Subscript)]
+            held = [part for index in indexes for part in ast.walk(index.slice)]
+            self.assertEqual([part.lineno for part in held if isinstance(part, ast.Starred)], [], path)
+
     def test_decorators_and_double_underscores(self):
         for path, tree in trees():
             for node in ast.walk(tree):
