@@ -1,51 +1,38 @@
-"""A pipe: its room, the values in it, and whether it is sealed."""
+"""Pipes: a PIPE is a tuple (row, is_sealed), row being the tuple of the values in it; it never changes."""
+
+EMPTY_PIPE = ((), False)
 
 
-class Pipe:
-    """A pipe, at first empty and not sealed."""
+def could_go_on(pipe, room, word):
+    """Tell whether a put, a take or a drain of a pipe with this room could be done."""
+    row, is_sealed = pipe
+    if word == "put":
+        return is_sealed or len(row) < room
+    return is_sealed or len(row) > 0
 
-    def __init__(self, room):
-        self.room = room
-        self.row = []
-        self.sealed = False
 
-    def can_put(self):
-        """Tell whether a put can be done."""
-        return self.sealed or len(self.row) < self.room
+def after_put(pipe, value):
+    """Return the pipe behind a put that can be done, and what the put tells."""
+    row, is_sealed = pipe
+    if is_sealed:
+        return (pipe, "closed")
+    return (((*row, value), is_sealed), "done")
 
-    def can_take(self):
-        """Tell whether a take, or a drain, can be done."""
-        return self.sealed or len(self.row) > 0
 
-    def put(self, value):
-        """Let a value stand behind the others, and return what a put tells that can be done."""
-        if self.sealed:
-            return "closed"
-        self.row.append(value)
-        return "done"
+def after_taking(pipe, word):
+    """Return the pipe behind a take or a drain that can be done, and what it tells."""
+    row, is_sealed = pipe
+    if not row:
+        return (pipe, "end")
+    if word == "take":
+        return ((row[1:], is_sealed), row[0])
+    return (((), is_sealed), row)
 
-    def take(self):
-        """Take out the first value, and return what a take tells that can be done."""
-        if not self.row:
-            return "end"
-        return self.row.pop(0)
 
-    def drain(self):
-        """Take out all values, and return what a drain tells that can be done."""
-        if not self.row:
-            return "end"
-        found = tuple(self.row)
-        self.row = []
-        return found
-
-    def seal(self):
-        """Seal the pipe, and return what a close tells."""
-        self.sealed = True
-        return "done"
-
-    def copied(self):
-        """Return a pipe like this one."""
-        other = Pipe(self.room)
-        other.row = list(self.row)
-        other.sealed = self.sealed
-        return other
+def after_pipe_call(pipe, call):
+    """Return the pipe behind a call of it that can be done, and what the call tells."""
+    if call[0] == "put":
+        return after_put(pipe, call[2])
+    if call[0] == "close":
+        return ((pipe[0], True), "done")
+    return after_taking(pipe, call[0])
