@@ -3,22 +3,10 @@
 from belowall.kinds import are_counts, is_agent, is_count, is_integer
 from belowall.runs import led, spans_of_calls, spans_of_closings
 from belowall.stands import (
-    Cast, NOT_YET, broken_off, can_break_off, can_do, can_end, done, ended_behind, ended_children, first_stand,
-    has_ended, next_call,
+    Cast, broken_off, can_break_off, can_do, can_end, done, ended_behind, ended_children, first_stand, has_ended,
+    next_call,
 )
 from belowall.stepping import beginning
-
-# By what they tell, calls of these words have changed nothing, wherever they stand in a row.
-IDLE_TELLINGS = {
-    "drain": "end",
-    "drop": "none",
-    "fork": "there",
-    "map": "there",
-    "put": "closed",
-    "send": "none",
-    "take": "end",
-    "write": "none",
-}
 
 
 class Case:
@@ -40,7 +28,7 @@ class Case:
 
     def next_span(self, stand, h):
         """Return the (first, last, telling) of the next call of a hand, if it has begun in the run, or None."""
-        number = max(0, stand[0][h])
+        number = 0 if stand[0][h] is None else stand[0][h]
         spans = self.call_spans[h]
         return spans[number] if number < len(spans) else None
 
@@ -68,30 +56,18 @@ class Case:
         return [way for way in found if span[1] is None or way[1] == span[2]]
 
 
-def is_idle(cast, call, telling):
-    """Tell whether a call that tells this changes nothing, wherever it stands in a row."""
-    if call[0] == "wait":
-        # A child may have the name "none".
-        return telling == "none" and telling not in cast.name_row
-    return call[0] == "read" or IDLE_TELLINGS.get(call[0]) == telling
-
-
 def options_of_calls(case, stand, deadline):
     """Return the list of tuples (last, word, who, telling, first, stand behind) of the calls that can be done next."""
     found = []
     for h, hand in enumerate(case.cast.row_of_hands):
         span = case.next_span(stand, h)
-        if span is None or stand[0][h] == NOT_YET or span[0] > deadline:
+        if span is None or stand[0][h] is None or span[0] > deadline:
             continue
         for word, telling, behind in case.ways_of_call(stand, h, span):
-            option = (case.never if span[1] is None else span[1], word, hand, telling, span[0], behind)
-            if span[1] is None and behind[1:] == stand[1:]:
-                # What need not be done, and would change nothing, may as well be left out.
-                continue
-            if span[1] is not None and is_idle(case.cast, next_call(case.cast, stand, h), telling):
-                # What changes nothing anywhere may as well be done now: whatever comes ahead of it can come behind it.
-                return [option]
-            found.append(option)
+            # What need not be done, and would change nothing, may as well be left out.
+            if span[1] is not None or behind[1:] != stand[1:]:
+                last = case.never if span[1] is None else span[1]
+                found.append((last, word, hand, telling, span[0], behind))
     return found
 
 
@@ -192,7 +168,7 @@ def behind_call(case, stand, row):
     """Return the stand behind a call, done or broken off, as a row tells it, or None if it cannot stand there so."""
     moment, word, who, telling = row
     h = case.cast.hand_at.get(who) if is_agent(who) else None
-    span = None if h is None or stand[0][h] == NOT_YET else case.next_span(stand, h)
+    span = None if h is None or stand[0][h] is None else case.next_span(stand, h)
     if span is None or not is_within(moment, span):
         return None
     for at, told, behind in case.ways_of_call(stand, h, span):

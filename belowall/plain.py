@@ -4,8 +4,7 @@ from belowall.errors import NoChild, NoPipe, NoProcess, Stuck, Wrong
 from belowall.kinds import are_counts, is_agent, is_integer, is_work
 from belowall.scenes import IDLE_WORK
 from belowall.stands import (
-    Cast, NOT_YET, broken_off, can_break_off, can_do, can_end, done, ended_behind, ended_children, first_stand,
-    next_call,
+    Cast, broken_off, can_break_off, can_do, can_end, done, ended_behind, ended_children, first_stand, next_call,
 )
 
 
@@ -77,7 +76,7 @@ class Plain:
     def told(self):
         """Return the dict from all hands that have come to be to the lists of what their calls told."""
         counts = self._stand[0]
-        return {hand: list(self._tellings[hand]) for hand, h in self._cast.hand_at.items() if counts[h] != NOT_YET}
+        return {hand: list(self._tellings[hand]) for hand, h in self._cast.hand_at.items() if counts[h] is not None}
 
     def pages(self, process):
         """Return the dict from the pages of a process that is there to lists of their two values."""

@@ -7,7 +7,7 @@ from belowall.stepping import beginning, can_step, do_step
 MOST_ENTRIES = 800
 
 # What stands in the place of a call's number where a step belongs to the closing of a process.
-CLOSING = -1
+CLOSING = "closing"
 
 
 def can_be_led(kernel, agent):

@@ -19,7 +19,7 @@ class Scene:
         self.names = sorted_by_key(names_by_process(work))
         self.rooms = work[1]
         self.outs = work[2]
-        self.pages = pages_in(work)
+        self.all_pages = pages_in(work)
         self.mates = {process: [] for process in self.names}
         for hand in self.calls:
             self.mates[hand[:-1]].append(hand)

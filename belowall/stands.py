@@ -1,15 +1,13 @@
 """How the plain machine stands, in tuples that never change, and where each doing leads from there.
 
 A STAND is a tuple (counts, bodies, pipes). Counts tell for each hand of the work, ascending, how many of its calls are
-done, or NOT_YET till it comes to be. Bodies tell for each process of the work, ascending, None if it is not there, else
+done, None till it comes to be. Bodies tell for each process of the work, ascending, None if it is not there, else
 (parent, memory, is_up, has_ended): the place of its parent among the processes, for each page of the work None or its
 two values, whether its flag is up, and whether it has ended. The pipes are as in belowall.pipes.
 """
 
 from belowall.pipes import EMPTY_PIPE, after_pipe_call, could_go_on
 from belowall.scenes import Scene
-
-NOT_YET = -1
 
 BREAKABLE_WORDS = ("put", "take", "drain", "wait")
 
@@ -28,8 +26,8 @@ class Cast:
         self.row_of_processes = list(scene.names)
         self.hand_at = {hand: h for h, hand in enumerate(self.row_of_hands)}
         self.process_at = {process: p for p, process in enumerate(self.row_of_processes)}
-        self.page_at = {page: at for at, page in enumerate(scene.pages)}
-        self.row_of_pages = scene.pages
+        self.page_at = {page: at for at, page in enumerate(scene.all_pages)}
+        self.row_of_pages = scene.all_pages
         self.call_rows = list(scene.calls.values())
         self.name_row = list(scene.names.values())
         self.rooms = scene.rooms
@@ -39,7 +37,7 @@ class Cast:
 
 def first_stand(cast):
     """Return the stand at the beginning of a work."""
-    counts = (NOT_YET,) * len(cast.row_of_hands)
+    counts = (None,) * len(cast.row_of_hands)
     bodies = (None,) * len(cast.row_of_processes)
     memory = (None,) * len(cast.row_of_pages)
     return started(cast, (counts, bodies, (EMPTY_PIPE,) * len(cast.rooms)), 0, (None, memory, False, False))
@@ -57,7 +55,7 @@ def next_call(cast, stand, h):
     """Return the next call of a hand, or None if there is none, or no such hand yet."""
     count = stand[0][h]
     calls = cast.call_rows[h]
-    return calls[count] if 0 <= count < len(calls) else None
+    return calls[count] if count is not None and count < len(calls) else None
 
 
 def has_child(stand, p):
@@ -103,7 +101,7 @@ def can_break_off(cast, stand, h):
 
 def has_ended(cast, stand, p):
     """Tell whether a process has ended, be it there still or not."""
-    if stand[0][cast.mate_rows[p][0]] == NOT_YET:
+    if stand[0][cast.mate_rows[p][0]] is None:
         return False
     body = stand[1][p]
     return body is None or body[3]

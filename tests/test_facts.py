@@ -187,6 +187,20 @@ class WordsTest(unittest.TestCase):
                 go_all(machine, (1,))
             self.assertEqual([machine.state((0,)), machine.flags(), facts(machine)], ["asleep", ["root"], ["heeded"]])
 
+    def test_heeded_by_a_kid(self):
+        plan = standard().with_order("send", ("rouse", "post"))
+        machine = machine_of((("fork", "kid", ((TAKE,),)), ("send", "kid"), TAKE), rooms=(1,), plan=plan)
+        go(machine, (0,), 4 + 1)
+        go_all(machine, (0, 0, 0))
+        go_all(machine, (0,))
+        self.assertEqual([machine.flags(), facts(machine)], [["kid"], ["heeded"]])
+        # The flag of one process, and a hand of another that is asleep, go together.
+        other = machine_of((("fork", "kid", ((TAKE,),)), ("send", "root"), ("map", 0)), rooms=(1,), plan=plan)
+        go(other, (0,), 4)
+        go_all(other, (0, 0, 0))
+        go(other, (0,), 2)
+        self.assertEqual([other.flags(), other.state((0, 0, 0)), facts(other)], [["root"], "asleep", []])
+
     def test_several_at_once_ascend(self):
         plan = standard().with_order("send", ("rouse", "post")).with_wake("put", "none")
         machine = machine_of((TAKE,), (("send", "root"),), (PUT, TAKE), rooms=(1,), plan=plan)

@@ -211,6 +211,8 @@ class MachineTest(unittest.TestCase):
 
 
 class ChanceTest(unittest.TestCase):
+    """Copies go on in the place of their machines now and then."""
+
     def compare(self, machine, other, work):
         self.assertEqual(looks(machine, work), other.looks(work, processes_in(work)))
         self.assertEqual([facts(machine), is_lost(machine), sleepers(machine)],
@@ -226,6 +228,7 @@ class ChanceTest(unittest.TestCase):
                 if agent in machine.able():
                     self.assertEqual(machine.step(agent), other.step(agent), seed)
                     self.compare(machine, other, work)
+                machine = machine.copied() if chance.random() < 0.2 else machine
             for _ in range(300):
                 if machine.able():
                     agent = machine.able()[0]

@@ -538,6 +538,15 @@ class PagerTest(DeedCase):
         all_hands_go(machine)
         self.assertEqual([machine.slots(), machine.frames()], [[], []])
 
+    def test_closing_of_a_kid_waits_for_the_pager(self):
+        machine = machine_of((("map", 0), ("fork", "kid", IDLE), ("map", 1)), outs=(("kid", 0),))
+        go(machine, (0,), 2 + 4)
+        go(machine, (), 1)
+        for _ in range(3):
+            self.assertEqual([machine.state((0, 1, 0)), machine.state((0,))], ["barred", "able"])
+            machine.step(())
+        self.assertEqual([machine.state((0, 1, 0)), machine.step((0, 1, 0))], ["able", ("drop", "shut")])
+
     def test_nothing_behind_the_last(self):
         machine = machine_of((("map", 0), ("wait",)), outs=(("root", 0),))
         go(machine, (0,), 2)
