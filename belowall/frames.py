@@ -55,6 +55,10 @@ class Store:
         """Return the ascending list of the numbers of those that are not free."""
         return sorted(self._counts)
 
+    def shape(self):
+        """Return a tuple of all that tells one row from another; it never changes."""
+        return (tuple(sorted(self._counts.items())), tuple(sorted(self._contents.items())))
+
     def copied(self):
         """Return a Store like this one."""
         other = Store()

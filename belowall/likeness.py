@@ -2,10 +2,7 @@
 
 from belowall.kinds import are_counts, is_agent, is_count, is_integer
 from belowall.runs import led, spans_of_calls, spans_of_closings
-from belowall.stands import (
-    Cast, broken_off, can_break_off, can_do, can_end, done, ended_behind, ended_children, first_stand, has_ended,
-    next_call,
-)
+from belowall.stands import Cast, can_end, ended_behind, first_stand, has_ended, ways_of_call
 from belowall.stepping import beginning
 
 
@@ -42,18 +39,10 @@ class Case:
         ends = [self.next_end(stand, p) for p in range(len(self.end_spans))]
         return min([span[1] for span in spans + ends if span is not None and span[1] is not None], default=self.never)
 
-    def ways_of_call(self, stand, h, span):
-        """Return the list of tuples (word, telling, stand behind) in which a hand's next call can be done."""
-        found = []
-        if can_do(self.cast, stand, h):
-            call = next_call(self.cast, stand, h)
-            names = ended_children(self.cast, stand, self.cast.home_row[h]) if call[0] == "wait" else {}
-            for name in list(names) or [None]:
-                behind, telling = done(self.cast, stand, h, name)
-                found.append(("do", telling, behind))
-        if can_break_off(self.cast, stand, h):
-            found.append(("break", "broken", broken_off(self.cast, stand, h)))
-        return [way for way in found if span[1] is None or way[1] == span[2]]
+    def ways_in(self, stand, h, span):
+        """Return the list of tuples (word, telling, stand behind) in which a hand's next call can be done as told."""
+        ways = ways_of_call(self.cast, stand, h)
+        return [way for way in ways if span[1] is None or way[1] == span[2]]
 
 
 def options_of_calls(case, stand, deadline):
@@ -63,7 +52,7 @@ def options_of_calls(case, stand, deadline):
         span = case.next_span(stand, h)
         if span is None or stand[0][h] is None or span[0] > deadline:
             continue
-        for word, telling, behind in case.ways_of_call(stand, h, span):
+        for word, telling, behind in case.ways_in(stand, h, span):
             # What need not be done, and would change nothing, may as well be left out.
             if span[1] is not None or behind[1:] != stand[1:]:
                 last = case.never if span[1] is None else span[1]
@@ -171,7 +160,7 @@ def behind_call(case, stand, row):
     span = None if h is None or stand[0][h] is None else case.next_span(stand, h)
     if span is None or not is_within(moment, span):
         return None
-    for at, told, behind in case.ways_of_call(stand, h, span):
+    for at, told, behind in case.ways_in(stand, h, span):
         if at == word and is_same(told, telling):
             return behind
     return None

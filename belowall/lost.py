@@ -13,8 +13,11 @@ def could_go_on(kernel, hand):
     return hand[:-1] in kernel.flagged or can_be_tried(kernel, hand, kernel.next_call(hand))
 
 
+def is_any_lost(kernel):
+    """Tell whether a hand is asleep that could go on."""
+    return any([is_asleep(kernel, hand) and could_go_on(kernel, hand) for hand in kernel.tellings])
+
+
 def is_lost(machine):
     """Tell whether no agent can do a step, and somebody sleeps who could go on."""
-    if machine.able():
-        return False
-    return any([could_go_on(machine.kernel, hand) for hand in sleepers(machine)])
+    return not machine.able() and is_any_lost(machine.kernel)

@@ -203,6 +203,20 @@ def broken_off(cast, stand, h):
     return (with_item(counts, h, counts[h] + 1), with_item(bodies, home, body), pipes)
 
 
+def ways_of_call(cast, stand, h):
+    """Return the list of tuples (word, telling, stand behind) in which the next call of a hand can be done."""
+    found = []
+    if can_do(cast, stand, h):
+        call = next_call(cast, stand, h)
+        names = ended_children(cast, stand, cast.home_row[h]) if call[0] == "wait" else {}
+        for name in list(names) or [None]:
+            behind, telling = done(cast, stand, h, name)
+            found.append(("do", telling, behind))
+    if can_break_off(cast, stand, h):
+        found.append(("break", "broken", broken_off(cast, stand, h)))
+    return found
+
+
 def ended_behind(stand, p):
     """Return the stand where a process, which may end, has ended."""
     counts, bodies, pipes = stand
