@@ -17,7 +17,7 @@ LIBRARY = {"itertools": {"product", "combinations", "permutations"}, "heapq": {"
 METHODS = set("""
 append clear copy count endswith extend find get index insert isalnum isalpha isdigit islower isspace isupper items
 join keys ljust lower lstrip partition pop remove replace reverse rfind rjust rpartition rsplit rstrip setdefault
-split splitlines startswith strip update upper values zfill add discard
+split splitlines startswith strip update upper values zfill add discard isdecimal
 """.split())
 
 STATEMENTS = (
