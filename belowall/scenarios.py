@@ -2,8 +2,8 @@
 
 A scenario is a tuple (work, moves), moves being tuples (agent, goal): the agent goes on till as many of its calls (of
 the outs, for the pager) are done, or till it has done this step of this deed, or, where the goal is None, as long as
-it can. Between two moves no deed is half done but the one that the rule is about, and none of the others is asked for
-a step that a plan may leave out: so it does not matter what else the plan breaks.
+it can. Between two moves no deed is half done but the one that the rule is about, and nothing leans on a step that a
+plan may leave out: so what else the plan breaks hardly ever comes in the way.
 """
 
 # The work of a rule is alone, unless "hands" is among the rule's guards.
