@@ -120,8 +120,9 @@ class BadSearch:
         """Add a node to the level, if no node that goes on alike was added ahead of it."""
         counts = tuple([len(kernel.tellings[hand]) for hand in sorted(kernel.tellings)])
         mark = self.marks.mark(kernel, counts)
-        self.is_lacking = self.is_lacking or mark is None
-        if (mark, spot) not in self.seen:
+        if mark is None:
+            self.is_lacking = True
+        elif (mark, spot) not in self.seen:
             self.seen[mark, spot] = True
             self.level.append((kernel, spot, path))
 
@@ -150,7 +151,7 @@ class BadSearch:
 
     def look_at_level(self):
         """Look at all nodes of the level, and put those a step behind them in their place."""
-        rows = [(node, self.turns.agents(node[0])) for node in self.level]
+        rows = [(held, self.turns.agents(held[0])) for held in self.level]
         for node, agents in rows:
             if not agents and is_any_lost(node[0]):
                 self.path = node[2]

@@ -63,7 +63,7 @@ class Shadows:
 
     def closed(self, begun, numbers):
         """Return the dict of all shadows to which things that have begun lead from these."""
-        found = {number: True for number in numbers}
+        found = {shadow: True for shadow in numbers}
         rest = list(numbers)
         while rest:
             number = rest.pop()

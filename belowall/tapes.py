@@ -64,7 +64,7 @@ def left(tape, crash):
     for at in crash:
         _, block, value = tape[at]
         found[block] = value
-    return {block: found[block] for block in sorted(found)}
+    return {written: found[written] for written in sorted(found)}
 
 
 def values_that_can_be(base, writes, block):

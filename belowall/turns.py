@@ -35,8 +35,8 @@ class Turns:
     def is_private(self, kernel, agent, deed, done):
         """Tell whether the last of the steps done of a deed under way is private."""
         if deed == "exit":
-            # Who keeps which name matters to those alone who wait.
-            return not self.is_waited and done[-1] != "end"
+            # Who keeps which name, and has ended without any page, matters to those alone who wait.
+            return not self.is_waited
         if done[-1] not in PRIVATE_STEPS.get(deed, ()) or (len(done) == 1 and deed in TAKING_DEEDS):
             return False
         return is_left_alone(kernel, agent, kernel.under_way[agent][2][0])
@@ -48,4 +48,4 @@ class Turns:
                 order = kernel.plan.order(deed)
                 if self.is_private(kernel, agent, deed, order[:len(order) - len(rest)]):
                     return [agent]
-        return [agent for agent in [PAGER] + sorted(kernel.tellings) if can_step(kernel, agent)]
+        return [other for other in [PAGER] + sorted(kernel.tellings) if can_step(kernel, other)]

@@ -9,7 +9,8 @@ from belowall import everyrun as module
 from belowall.bad import bad_run, is_bad
 from belowall.everyrun import BadSearch, endings, is_safe, plain_endings, shortest_bad
 from belowall.kinds import is_alone
-from belowall.plans import standard
+from belowall.marks import are_filled_first
+from belowall.plans import Plan, standard
 from belowall.rules import broken
 from belowall.runs import led_on, run, steps
 from belowall.works import calls_of, hands_in
@@ -18,6 +19,7 @@ from tests.leading import IDLE, plan_by_chance
 from tests.rightplans import right_plan
 from tests.slowwalk import TooMany, slow_endings, slow_plain_endings, slow_shortest, told_by
 from tests.smallworks import page_work, small, small_case, waiting_work
+from tests.tables import every_order
 
 TAKE, PUT, MAP, WRITE, READ = ("take", 0), ("put", 0, 1), ("map", 0), ("write", 0, 0, 1), ("read", 0, 0)
 
@@ -38,6 +40,24 @@ LOST_SEEDS = [52, 70, 229, 268, 510, 525, 556, 563, 565, 607, 643, 670, 673, 694
 BAD_SEEDS = [1, 80, 95, 162, 187, 268, 300, 503, 521, 525, 597, 604, 636, 681, 705, 716, 772, 776, 853, 927, 986, 1035, 1047,
              1141, 1180, 1201, 1223, 1275, 1295, 1366, 1425, 1430, 1464, 1537, 1635, 1665, 1813, 2187, 2209, 2328, 2391,
              2459, 2670, 3098, 3332, 3358, 3376, 3392, 3441, 3549, 3667, 3690, 3752, 3835, 3843, 3928]
+
+
+# Works and orders of deeds where it matters what a frame or slot had, and who goes by it, ahead of its being given up.
+FREED = [
+    (((MAP, WRITE, ("map", 1), READ), (READ,)), (), (("root", 0),),
+     {"copy": ("flush", "fill", "shut", "lower", "put"), "fetch": ("put", "load", "leave")}),
+    (((MAP, MAP), (WRITE, MAP), (("drop", 0), READ)), (), (("root", 0),), {"map": ("put", "wipe")}),
+    (((MAP, ("fork", "a", ((("write", 0, 0, 2),),)), ("map", 1), ("map", 1)), (("read", 1, 0), ("write", 0, 0, 2))), (), (),
+     {"map": ("put", "wipe")}),
+    (((MAP, ("fork", "a", ((("write", 1, 0, 1), READ),)), ("write", 1, 0, 1), WRITE, ("write", 0, 0, 3)),), (), (("a", 0),),
+     {"out": ("shut", "lower", "save", "flush")}),
+    (((MAP, READ), (("write", 0, 0, 2), READ)), (), (("root", 0),), {"out": ("save", "flush", "shut")}),
+    (((MAP, READ, MAP, ("drop", 0)), (("write", 0, 0, 3), READ)), (), (("root", 0),),
+     {"out": ("save", "lower", "shut", "flush")}),
+    # Two writes ahead of a drop: what is left in the frame is read where it is mapped once more, and not yet wiped.
+    (((MAP, ("write", 0, 0, 5), ("drop", 0), ("map", 1)), (("write", 0, 0, 7),), (("read", 1, 0),)), (), (),
+     {"map": ("put", "wipe")}),
+]
 
 
 def is_small(work, most=6):
@@ -141,6 +161,12 @@ class EndingsTest(unittest.TestCase):
         for rule, plan, work, schedule, _ in small_bad_runs():
             machine = run(plan, work, led_on(plan, work, schedule))
             self.assertIn(told_by(machine), [told for told, _ in endings(plan, work)], rule)
+
+    def test_frames_and_slots_that_are_given_up(self):
+        for hands, rooms, outs, orders in FREED:
+            plan = Plan("each", orders, {}, False, True)
+            work = (hands, rooms, outs)
+            self.assertEqual(endings(plan, work), slow_endings(plan, work, 30000), work)
 
     def test_by_right_plans_all_ends_as_the_plain_machine_does(self):
         for seed in range(120):
@@ -277,6 +303,18 @@ class ShortestBadTest(unittest.TestCase):
 
 
 class MarksTest(unittest.TestCase):
+    def test_where_names_may_be_enough(self):
+        """Nobody may look at what a frame had: so it is where it is filled ahead of being put, or where nobody can look."""
+        alone, other = ((MAP,),), ((MAP,), (READ,))
+        for deed, first, second in [("map", "wipe", "put"), ("copy", "fill", "put"), ("fetch", "load", "put")]:
+            for order in every_order(deed):
+                plan = standard().with_order(deed, order)
+                self.assertIs(are_filled_first(plan, (other, (), ())), order.index(first) < order.index(second))
+                self.assertIs(are_filled_first(plan, (alone, (), ())), True)
+        for deed in ("drop", "out", "fork", "await"):
+            for order in every_order(deed):
+                self.assertIs(are_filled_first(standard().with_order(deed, order), (other, (), ())), True)
+
     def depth(self, thing):
         """Return how deep tuples stand in a thing; nothing in it may be but tuples and what never changes."""
         if not isinstance(thing, tuple):
